@@ -18,6 +18,34 @@ WORDINGS = (
 (5400, 3600, 337, ((3600, 5399),), None)
 """)
 
+LOOKS = (
+    r"""
+>>> from agewords.looks import events, order, shown
+>>> from agewords.wordings import Row, Wording
+>>> wording, seen = Wording([Row(None, 60, "down", "m")]), [(1000, ("m", 2)), (1100, ("m", 3))]
+>>> (events(wording, seen), shown(wording, 870, [1000, 1100, 800]), order(wording, seen, [(900, None)]))
+((861, 880), [('m', 2), ('m', 3), None], ('before',))
+""",)
+
+BEATS = (
+    r"""
+>>> from agewords.beats import Beat, known, needed
+>>> from agewords.wordings import Row, Wording
+>>> wording = Wording([Row(None, 60, "down", "m")])
+>>> (known(wording, Beat(0, 42, None), -100), known(wording, Beat(0, 42, 3), -100), needed(wording, Beat(0, 42, None), -100, 6))
+((-101, -96), (-119, -96), 10)
+""",)
+
+SCREENS = (
+    r"""
+>>> from agewords.screens import Screen, greatest_waits, latest, skipped
+>>> from agewords.wordings import Row, Wording
+>>> wording = Wording([Row(60, None, "down", "now"), Row(None, 7, "down", "m")])
+>>> screen = Screen(Wording([Row(None, 60, "down", "m")]), [100])
+>>> (latest(screen, 0, 70), skipped(screen, 0, None), screen.shows(0, 199), greatest_waits(wording))
+((40, 0), 120, ('m', 1), (60, 1))
+""",)
+
 
 class Examples(unittest.TestCase):
 
@@ -31,6 +59,18 @@ class Examples(unittest.TestCase):
     def test_wordings(self):
         for text in WORDINGS:
             self.run_example(text, "wordings")
+
+    def test_looks(self):
+        for text in LOOKS:
+            self.run_example(text, "looks")
+
+    def test_beats(self):
+        for text in BEATS:
+            self.run_example(text, "beats")
+
+    def test_screens(self):
+        for text in SCREENS:
+            self.run_example(text, "screens")
 
     def test_readme(self):
         readme = pathlib.Path(__file__).resolve().parent.parent / "README.md"

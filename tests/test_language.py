@@ -29,7 +29,10 @@ INTERFACE = {
     "wordings": {"Row": ("__init__", "__eq__"),
                  "Wording": ("__init__", "__eq__", "__str__", "label", "text", "later_edge", "last_edge", "edges",
                              "ages", "returns", "read")},
-    "compare": {"alike": None, "finer": None, "harmless": None}}
+    "compare": {"alike": None, "finer": None, "harmless": None},
+    "looks": {"shown": None, "events": None, "order": None, "same_events": None},
+    "beats": {"Beat": ("__init__",), "known": None, "needed": None},
+    "screens": {"Screen": ("__init__", "worded", "shows"), "latest": None, "skipped": None, "greatest_waits": None}}
 
 
 def parsed():
