@@ -1,6 +1,6 @@
 """Looks at told moments: what they show, and what they tell of when something happened."""
 
-from agewords.errors import Clash
+from agewords.stretches import common, is_apart
 from agewords.wordings import demand_steady
 
 
@@ -12,17 +12,7 @@ def shown(wording, event, moments):
 def events(wording, seen):
     """The stretch of all events of which looks show what was seen."""
     demand_steady(wording)
-    stretches = [explained(wording, moment, label) for moment, label in seen]
-    for index, stretch in enumerate(stretches):
-        if stretch is None:
-            raise Clash(index, index)
-    lows = [(stretch[0], index) for index, stretch in enumerate(stretches) if stretch[0] is not None]
-    highs = [(stretch[1], index) for index, stretch in enumerate(stretches) if stretch[1] is not None]
-    low, lowest_by = max(lows, default=(None, None))
-    high, highest_by = min(highs, default=(None, None))
-    if not is_apart(low, high, 0):
-        raise Clash(min(lowest_by, highest_by), max(lowest_by, highest_by))
-    return (low, high)
+    return common([explained(wording, moment, label) for moment, label in seen])
 
 
 def order(wording, seen, other):
@@ -59,8 +49,3 @@ def explained(wording, moment, label):
     # A steady wording has a label at one stretch of ages.
     low, high = ages[0]
     return (None if high is None else moment - high, moment - low)
-
-
-def is_apart(low, high, distance):
-    """Whether high is at least the distance more than low, where None stands for no bound."""
-    return low is None or high is None or high - low >= distance

@@ -2,6 +2,7 @@
 
 from agewords.errors import BadAge, BadRow, Unsteady
 from agewords.rounding import counted, first_with
+from agewords.stretches import joined
 from agewords.texts import decimal, read_rows, row_line
 
 
@@ -212,13 +213,3 @@ def spans_of(rows):
 def number_of_edges(spans, age):
     """How many edges of a wording are at most the age."""
     return sum([span.number_until(age) for span in spans if span.low <= age])
-
-
-def joined(stretches):
-    """Ascending stretches as a tuple, with those that touch made one."""
-    found = []
-    for low, high in stretches:
-        if found != [] and found[-1][1] + 1 == low:
-            low, _ = found.pop()
-        found.append((low, high))
-    return tuple(found)

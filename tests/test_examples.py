@@ -46,6 +46,15 @@ SCREENS = (
 ((40, 0), 120, ('m', 1), (60, 1))
 """,)
 
+PHASES = (
+    r"""
+>>> from agewords.phases import events_of, pieces
+>>> from agewords.wordings import Row, Wording
+>>> told = pieces(Wording([Row(None, 60, "down", "m")]), 30, [(100, ("m", 1))])
+>>> (told, events_of(told))
+((((0, 10), (-29, 30)), ((11, 29), (-59, 0))), ((-48, 40),))
+""",)
+
 
 class Examples(unittest.TestCase):
 
@@ -71,6 +80,10 @@ class Examples(unittest.TestCase):
     def test_screens(self):
         for text in SCREENS:
             self.run_example(text, "screens")
+
+    def test_phases(self):
+        for text in PHASES:
+            self.run_example(text, "phases")
 
     def test_readme(self):
         readme = pathlib.Path(__file__).resolve().parent.parent / "README.md"

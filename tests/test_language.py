@@ -32,7 +32,10 @@ INTERFACE = {
     "compare": {"alike": None, "finer": None, "harmless": None},
     "looks": {"shown": None, "events": None, "order": None, "same_events": None},
     "beats": {"Beat": ("__init__",), "known": None, "needed": None},
-    "screens": {"Screen": ("__init__", "worded", "shows"), "latest": None, "skipped": None, "greatest_waits": None}}
+    "screens": {"Screen": ("__init__", "worded", "shows"), "latest": None, "skipped": None, "greatest_waits": None},
+    "phases": {"pieces": None, "events_of": None},
+    "units": {"units": None, "parting": None},
+    "boards": {"Board": ("__init__", "looks", "events", "put", "drop", "keep", "free", "undo", "redo", "tried")}}
 
 
 def parsed():
@@ -103,6 +106,25 @@ class Code(unittest.TestCase):
         for name, node in nodes(ast.FunctionDef):
             if node.name.startswith("__"):
                 self.assertIn(node.name, DOUBLE_UNDERSCORE, (name, node.lineno))
+
+    def test_decorators(self):
+        for name, node in nodes((ast.FunctionDef, ast.ClassDef)):
+            for decorator in node.decorator_list:
+                self.assertIn(ast.unparse(decorator), ("property", "classmethod", "staticmethod"), (name, node.lineno))
+
+    def test_finally_only_assigns(self):
+        for name, node in nodes(ast.Try):
+            for statement in node.finalbody:
+                self.assertIsInstance(statement, (ast.Assign, ast.AugAssign), (name, statement.lineno))
+                kinds = {type(part) for part in ast.walk(statement)}
+                self.assertEqual(kinds & {ast.Call, ast.Subscript, ast.Compare, ast.UnaryOp}, set(), (name, statement.lineno))
+
+    def test_no_name_is_a_method_and_an_attribute_in_one_class(self):
+        for name, node in nodes(ast.ClassDef):
+            methods = {part.name for part in node.body if isinstance(part, ast.FunctionDef)}
+            stored = {part.attr for part in ast.walk(node) if isinstance(part, ast.Attribute)
+                      and isinstance(part.ctx, ast.Store)}
+            self.assertEqual(methods & stored, set(), (name, node.name))
 
     def test_values(self):
         for name, node in nodes(ast.Constant):
